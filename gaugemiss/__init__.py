@@ -1,0 +1,1 @@
+"""Gaugemiss: how far an answer can be from the true level when gauges lie."""
