@@ -3,7 +3,7 @@
 import inspect
 import unittest
 
-from gaugemiss import gauges, sharing, stretch
+from gaugemiss import gauges, notation, papers, rules, sharing, stretch, worst
 
 FUNCTIONS = {
     (sharing, "depth"): "(stretches, level)", (sharing, "shared"): "(stretches, need)",
@@ -11,12 +11,26 @@ FUNCTIONS = {
     (sharing, "apart_lots"): "(stretches)", (sharing, "possible"): "(stretches, liars)",
     (sharing, "sure_liars"): "(stretches, liars)", (sharing, "sure_honest"): "(stretches, liars)",
     (sharing, "clashes"): "(stretches)",
+    (notation, "read_rule"): "(text)", (notation, "write_gauge"): "(gauge)", (notation, "read_gauge"): "(line)",
+    (notation, "write_rack"): "(rack)", (notation, "read_rack"): "(text)",
+    (worst, "liar_lots"): "(rack, liars)", (worst, "worst_miss"): "(rack, rule, liars)",
+    (worst, "worst_case"): "(rack, rule, liars, *, side='above', level=0, beyond=0)",
+    (worst, "too_many"): "(rack, rule)", (worst, "order_rules"): "(rack, rules, liars)",
+    (worst, "best_rule"): "(rack, rules, liars)", (worst, "tree_loss"): "(rack, rule, liars)",
+    (worst, "miss_table"): "(rack, rule)",
+    (papers, "make_paper"): "(rack, rule, liars, *, side='above')",
+    (papers, "check_paper"): "(rack, rule, liars, paper, *, side='above')",
+    (papers, "least_miss"): "(rack, liars)", (papers, "twin_worlds"): "(rack, liars)",
 }
 
 CLASSES = {
     (stretch, "Stretch"): "(low, high)", (stretch, "Levels"): "(*stretches)", (gauges, "Gauge"): "(name, radius)",
     (gauges, "CoarseGauge"): "(name, radius, *, step)", (gauges, "LateGauge"): "(name, radius, *, late, pace)",
     (gauges, "LateCoarseGauge"): "(name, radius, *, step, late, pace)", (gauges, "Rack"): "(*gauges, together=())",
+    (rules, "Leaf"): "(name)", (rules, "Rank"): "(place, *parts)", (rules, "Trim"): "(cut, *parts)",
+    (rules, "Weigh"): "(weights, *parts)", (worst, "Miss"): "(above, below)",
+    (worst, "Case"): "(level, readings, lot, reply)",
+    (papers, "Twins"): "(readings, low_level, low_lot, high_level, high_lot)",
 }
 
 METHODS = {
@@ -29,18 +43,23 @@ METHODS = {
     gauges.Rack: {"names": "(self)", "gauge": "(self, name)", "faults": "(self)", "fault_count": "(self, names)",
                   "possible": "(self, readings, liars)", "fused": "(self, readings, liars)",
                   "blame": "(self, readings, level)"},
+    rules.Rule: {"names": "(self)", "answer": "(self, readings)"},
+    worst.Case: {"holds": "(self, rack, liars)"},
 }
 
 CLASS_METHODS = {stretch.Stretch: {"around": "(level, radius)"}, stretch.Levels: {"of": "(stretches)"},
-                 gauges.Rack: {"of": "(gauges, together=())"}}
+                 gauges.Rack: {"of": "(gauges, together=())"},
+                 rules.Rank: {"least": "(*parts)", "greatest": "(*parts)", "median": "(*parts)",
+                              "of": "(place, parts)"},
+                 rules.Trim: {"of": "(cut, parts)"}, rules.Weigh: {"of": "(weights, parts)"}}
 
 PROPERTIES = {stretch.Stretch: ["width", "middle"], stretch.Levels: ["lowest", "highest", "size"],
-              gauges.Gauge: ["width"]}
+              gauges.Gauge: ["width"], worst.Miss: ["worst"], worst.Case: ["miss"], papers.Twins: ["gap"]}
 
 OPERATORS = {
     stretch.Stretch: ["contains", "eq", "add", "sub", "neg", "and", "or", "repr", "str"],
     stretch.Levels: ["contains", "eq", "and", "or", "sub", "add", "getitem", "len", "bool", "repr", "str", "iter"],
-    gauges.Rack: ["len", "contains"],
+    gauges.Rack: ["len", "contains"], rules.Rule: ["eq", "str"], worst.Miss: ["eq"],
 }
 
 
@@ -63,6 +82,11 @@ class Interface(unittest.TestCase):
                 self.assertEqual(str(inspect.signature(getattr(kind, name))), arguments, (kind, name))
         self.assertIsInstance(vars(stretch.Levels)["none"], staticmethod)
         self.assertEqual(str(inspect.signature(stretch.Levels.none)), "()")
+
+    def test_the_kinds_of_rules(self):
+        for kind in (rules.Leaf, rules.Rank, rules.Trim, rules.Weigh):
+            self.assertEqual(kind.__bases__, (rules.Rule,))
+        self.assertEqual(rules.Rule.__module__, "gaugemiss.rules")
 
     def test_properties_and_class_values(self):
         for kind, names in PROPERTIES.items():

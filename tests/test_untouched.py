@@ -3,11 +3,23 @@
 import copy
 import unittest
 
-from gaugemiss import sharing
+from gaugemiss import papers, sharing, worst
 from gaugemiss.errors import GaugeError
 from gaugemiss.gauges import Gauge, Rack
+from gaugemiss.notation import read_rack, read_rule, write_rack
+from gaugemiss.papers import Twins
+from gaugemiss.rules import Leaf, Rank, Trim, Weigh
 from gaugemiss.stretch import Levels, Stretch
+from gaugemiss.worst import Case
 from tests.checks import Checks, stretches
+
+
+def small_rack(together=()):
+    return Rack(Gauge("a", 1), Gauge("b", 4), Gauge("c", 2), together=together)
+
+
+def shown(rack):
+    return write_rack(rack), rack.names(), rack.faults()
 
 
 class Arguments(Checks):
@@ -49,6 +61,45 @@ class Arguments(Checks):
             self.assertRaises(GaugeError, call)
         self.assertEqual([rack.names(), rack.faults(), readings, levels.ends(), vars(stretch)], before)
 
+    def test_rules_leave_lists_and_dicts_as_they_were(self):
+        parts, weights = [Leaf("c"), Leaf("a"), Leaf("b")], [0, 5, 1]
+        readings = {"c": 9, "x": 0, "b": 8, "a": 50}
+        for rule in (Rank.of(1, parts), Trim.of(1, parts), Weigh.of(weights, parts), Rank.median(*parts)):
+            rule.answer(readings)
+        self.assertEqual([[str(part) for part in parts], weights], [["c", "a", "b"], [0, 5, 1]])
+        self.assertEqual(list(readings.items()), [("c", 9), ("x", 0), ("b", 8), ("a", 50)])
+
+    def test_worst_and_papers_leave_racks_rules_and_lists_as_they_were(self):
+        rack, rule = small_rack(), read_rule("trim 1 (c, weigh 1 2 (b, x), a)")
+        rules = [read_rule("rank 1 (b, a)"), Leaf("c"), Leaf("a")]
+        known = read_rule("trim 0 (c, weigh 1 2 (b, a))")
+        paper = papers.make_paper(rack, known, 1)
+        before = copy.deepcopy([shown(rack), str(rule), str(known), [str(each) for each in rules], paper])
+        calls = [lambda: worst.worst_miss(rack, known, 1), lambda: worst.worst_case(rack, known, 1, beyond=9),
+                 lambda: worst.too_many(rack, known), lambda: worst.order_rules(rack, rules, 1),
+                 lambda: worst.best_rule(rack, rules, 0), lambda: worst.tree_loss(rack, known, 0),
+                 lambda: worst.miss_table(rack, known), lambda: list(worst.liar_lots(rack, 2)),
+                 lambda: papers.check_paper(rack, known, 1, paper), lambda: papers.least_miss(rack, 1),
+                 lambda: papers.twin_worlds(rack, 1)]
+        wrong = [lambda: worst.worst_miss(rack, rule, 1), lambda: worst.worst_case(rack, known, 4),
+                 lambda: worst.too_many(rack, rule), lambda: worst.order_rules(rack, [*rules, rule], 1),
+                 lambda: worst.tree_loss(rack, known, -1), lambda: worst.miss_table(rack, rule),
+                 lambda: papers.make_paper(rack, known, 4), lambda: papers.check_paper(rack, known, 2, paper),
+                 lambda: papers.least_miss(rack, 4), lambda: papers.twin_worlds(rack, 2),
+                 lambda: rule.answer({"c": 1, "b": 2})]
+        for call in calls:
+            call()
+        for call in wrong:
+            self.assertRaises(GaugeError, call)
+        self.assertEqual([shown(rack), str(rule), str(known), [str(each) for each in rules], paper], before)
+
+    def test_a_case_leaves_what_it_looks_at_as_it_was(self):
+        rack, case = small_rack((("a", "b"),)), Case(5, {"c": 5, "b": 9, "a": 90}, ["b", "a", "b"], 9)
+        before = copy.deepcopy([shown(rack), vars(case)])
+        self.assertIs(case.holds(rack, 1), True)
+        self.assertIs(case.holds(rack, 0), False)
+        self.assertEqual([shown(rack), vars(case)], before)
+
 
 class HandedIn(Checks):
     def test_a_list_of_stretches(self):
@@ -68,6 +119,23 @@ class HandedIn(Checks):
         self.assertEqual([rack.names(), rack.faults(), len(rack)], [["b", "a"], [["b", "a"]], 2])
         self.assertEqual(rack.fault_count(["a", "b"]), 1)
         self.assertNotIn("c", rack)
+
+    def test_readings_and_lots(self):
+        readings, lot, other = {"a": 1, "b": 2}, ["a"], ["b"]
+        case, twins = Case(0, readings, lot, 1), Twins(readings, 0, lot, 1, other)
+        readings["a"] = 99
+        readings["z"] = 0
+        lot.append("z")
+        other.clear()
+        self.assertEqual([case.readings, case.lot], [{"a": 1, "b": 2}, ["a"]])
+        self.assertEqual([twins.readings, twins.low_lot, twins.high_lot], [{"a": 1, "b": 2}, ["a"], ["b"]])
+
+    def test_weights_and_parts(self):
+        weights, parts = [0, 3], [Leaf("a"), Leaf("b")]
+        rule = Weigh.of(weights, parts)
+        weights.reverse()
+        parts.clear()
+        self.assertEqual([str(rule), rule.answer({"a": 1, "b": 2})], ["weigh 0 3 (a, b)", 2])
 
 
 class Returned(Checks):
@@ -101,6 +169,32 @@ class Returned(Checks):
         self.assertEqual(rack.faults(), [["b", "a"], ["c"]])
         self.assertEqual(rack.blame({"a": 9}, 0), ["a"])
         self.assertEqual([len(rack), rack.fault_count(["b", "c"])], [3, 2])
+
+    def test_names_of_a_rule(self):
+        for rule, names in ((read_rule("rank 0 (b, trim 0 (a, c))"), ["b", "a", "c"]), (Leaf("a"), ["a"])):
+            rule.names().append("x")
+            rule.names().clear()
+            self.assertEqual(rule.names(), names)
+            self.assertEqual(rule.answer({"a": 7, "b": 8, "c": 9}), 7 if names == ["a"] else 8)
+
+    def test_results_of_worst_and_papers(self):
+        rack, rule = small_rack(), read_rule("rank 1 (a, rank 0 (b), c)")
+        calls = [lambda: worst.order_rules(rack, [rule, Leaf("a")], 1), lambda: worst.miss_table(rack, rule),
+                 lambda: papers.make_paper(rack, rule, 1), lambda: worst.worst_case(rack, rule, 1).lot,
+                 lambda: worst.worst_case(rack, rule, 1).readings, lambda: papers.twin_worlds(rack, 1).low_lot,
+                 lambda: papers.twin_worlds(rack, 1).high_lot, lambda: papers.twin_worlds(rack, 1).readings]
+        for call in calls:
+            before = copy.deepcopy(call())
+            call().clear()
+            self.assertEqual(call(), before)
+            self.assertTrue(before)
+        self.assertEqual(shown(rack), shown(small_rack()))
+
+    def test_a_rack_that_was_read(self):
+        text = "a 1\nb 4\nc 2\ntogether c a"
+        read_rack(text).faults()[0].append("b")
+        read_rack(text).names().clear()
+        self.assertEqual(shown(read_rack(text)), shown(small_rack((("a", "c"),))))
 
 
 if __name__ == "__main__":
