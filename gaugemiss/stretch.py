@@ -160,8 +160,18 @@ class Levels:
         return isinstance(other, Levels) and self._pieces == other._pieces
 
     def __and__(self, other):
-        pairs = [(max(a.low, b.low), min(a.high, b.high)) for a in self._pieces for b in other._pieces]
-        common = [Stretch(low, high) for low, high in pairs if low <= high]
+        common = []
+        at = past = 0
+        while at < len(self._pieces) and past < len(other._pieces):
+            one = self._pieces[at]
+            two = other._pieces[past]
+            if one.low <= two.high and two.low <= one.high:
+                common.append(one & two)
+            # The piece that ends first has nothing in common with the pieces behind the other one.
+            if one.high < two.high:
+                at += 1
+            else:
+                past += 1
         return Levels(*common)
 
     def __or__(self, other):

@@ -4,6 +4,16 @@ import inspect
 import unittest
 
 from gaugemiss import errors
+from gaugemiss.alike import Finder, differ
+from gaugemiss.desk import Desk
+from gaugemiss.dropping import Keeper, drop_case
+from gaugemiss.gauges import Gauge, Rack
+from gaugemiss.notation import read_rack, read_rule
+from gaugemiss.papers import check_paper, make_paper, twin_worlds
+from gaugemiss.rules import Leaf, Rank, Trim
+from gaugemiss.sharing import possible, shared
+from gaugemiss.stretch import Levels, Stretch
+from gaugemiss.tying import partner
 from tests.checks import Checks
 
 ATTRIBUTES = {
@@ -64,6 +74,52 @@ class ErrorClasses(Checks):
         self.assertEqual(made.lot, ["a"])
         made.lot.append("c")
         self.assertEqual(lot, ["a", "b"])
+
+
+def pair(together=()):
+    return Rack(Gauge("a", 1), Gauge("b", 1), together=together)
+
+
+def desk():
+    return Desk(pair(), Stretch(0, 9))
+
+
+CALLS = {
+    "BadStretch": (lambda: Stretch(3, 2), {"low": 3, "high": 2}), "NoLevel": (lambda: Levels().lowest, {}),
+    "Apart": (lambda: Stretch(0, 1) & Stretch(3, 4), {"first": (0, 1), "second": (3, 4)}),
+    "BadNeed": (lambda: shared([], 0), {"number": 0}), "BadLiars": (lambda: possible([], 0), {"number": 0}),
+    "BadGauge": (lambda: Gauge("A", 1), {"name": "A"}),
+    "DuplicateGauge": (lambda: Rank(0, Leaf("a"), Leaf("a")), {"name": "a"}),
+    "UnknownGauge": (lambda: pair().gauge("x"), {"name": "x"}),
+    "MissingReading": (lambda: Leaf("a").answer({}), {"name": "a"}), "BadRule": (lambda: Rank(0), {"kind": "rank"}),
+    "BadText": (lambda: read_rule("A"), {"text": "A"}), "BadLine": (lambda: read_rack("a 1\nb"), {"line": 2}),
+    "SharedFault": (lambda: make_paper(pair((("a", "b"),)), Leaf("a"), 0), {"name": "a"}),
+    "BadPaper": (lambda: check_paper(pair(), Leaf("a"), 0, []), {"row": 0}),
+    "NoBound": (lambda: twin_worlds(pair(), 1), {}), "BadLimit": (lambda: Keeper(pair(), -1), {"number": -1}),
+    "NoCase": (lambda: drop_case(pair(), ["a"], [], "a", 0), {"lot": ["a"]}),
+    "NoTruth": (lambda: desk().record({"a": 99}), {"tick": 0}), "NoTick": (lambda: desk().at(0), {"tick": 0}),
+    "NotPossible": (lambda: partner(5, Levels(), Stretch(0, 1)), {"level": 5}),
+    "NothingToUndo": (lambda: desk().undo(), {}), "NothingToRedo": (lambda: desk().redo(), {}),
+    "NotRanked": (lambda: differ(Trim(0, Leaf("a")), Leaf("a")), {}),
+    "NoRule": (lambda: Finder().tell({}, 5), {"reply": 5}),
+}
+
+
+class Raised(Checks):
+    def test_there_is_a_call_for_each_of_the_24_errors(self):
+        self.assertEqual([sorted(CALLS), len(CALLS)], [sorted(ATTRIBUTES), 24])
+
+    def test_each_call_raises_its_error_only(self):
+        kinds = [getattr(errors, name) for name in ATTRIBUTES]
+        for name, (call, told) in CALLS.items():
+            own = getattr(errors, name)
+            self.refuses(own, told, call)
+            with self.assertRaises(ValueError) as caught:
+                call()
+            self.assertIsInstance(caught.exception, errors.GaugeError)
+            bases = [own, errors.NoLevel] if name == "Apart" else [own]
+            self.assertEqual([kind for kind in kinds if isinstance(caught.exception, kind)],
+                             [kind for kind in kinds if kind in bases], name)
 
 
 if __name__ == "__main__":

@@ -49,7 +49,7 @@ class Form(unittest.TestCase):
             for node in nodes(path):
                 self.assertNotIsInstance(node, BARRED, (path.name, getattr(node, "lineno", 0)))
                 for decorator in getattr(node, "decorator_list", []):
-                    self.assertIn(ast.unparse(decorator), DECORATORS)
+                    self.assertIn(ast.unparse(decorator), (*DECORATORS, f"{node.name}.setter"))
                 if isinstance(node, ast.Constant):
                     self.assertNotIsInstance(node.value, (float, complex, bytes))
                     self.assertNotIn("%", str(node.value), (path.name, node.lineno))

@@ -3,7 +3,7 @@
 import inspect
 import unittest
 
-from gaugemiss import gauges, notation, papers, rules, sharing, stretch, worst
+from gaugemiss import alike, desk, dropping, gauges, notation, papers, rules, sharing, stretch, tying, worst
 
 FUNCTIONS = {
     (sharing, "depth"): "(stretches, level)", (sharing, "shared"): "(stretches, need)",
@@ -21,6 +21,13 @@ FUNCTIONS = {
     (papers, "make_paper"): "(rack, rule, liars, *, side='above')",
     (papers, "check_paper"): "(rack, rule, liars, paper, *, side='above')",
     (papers, "least_miss"): "(rack, liars)", (papers, "twin_worlds"): "(rack, liars)",
+    (dropping, "honest_reach"): "(rack, kept, lot, name)", (dropping, "drop_case"): "(rack, kept, lot, name, limit)",
+    (dropping, "drop_table"): "(rack, limit, lot)", (dropping, "drop_path"): "(rack, limit, lot, kept)",
+    (dropping, "safe_limit"): "(rack, lot)", (dropping, "keeper_miss"): "(rack, limit, lot)",
+    (alike, "differ"): "(rule, other)", (alike, "alike"): "(rule, other)",
+    (tying, "tied"): "(first, second, gap)", (tying, "partner"): "(level, second, gap)",
+    (tying, "shared_budget"): "(first, second, gap, liars)", (tying, "joint_clashes"): "(first, second, gap)",
+    (tying, "agreed"): "(first, second, gap)",
 }
 
 CLASSES = {
@@ -31,6 +38,8 @@ CLASSES = {
     (rules, "Weigh"): "(weights, *parts)", (worst, "Miss"): "(above, below)",
     (worst, "Case"): "(level, readings, lot, reply)",
     (papers, "Twins"): "(readings, low_level, low_lot, high_level, high_lot)",
+    (dropping, "Keeper"): "(rack, limit)", (desk, "Desk"): "(rack, start, *, liars=0, pace=0)",
+    (desk, "SteadyDesk"): "(rack, start, *, liars=0, pace=0)", (alike, "Finder"): "(*rules)",
 }
 
 METHODS = {
@@ -45,21 +54,29 @@ METHODS = {
                   "blame": "(self, readings, level)"},
     rules.Rule: {"names": "(self)", "answer": "(self, readings)"},
     worst.Case: {"holds": "(self, rack, liars)"},
+    dropping.Keeper: {"take": "(self, readings)", "kept": "(self)", "dropped": "(self)", "change": "(self, limit)"},
+    desk.Desk: {"record": "(self, readings)", "at": "(self, tick)", "smoothed": "(self, tick)",
+                "tell_late": "(self, name, tick, reading)", "allow": "(self, liars)", "undo": "(self)",
+                "redo": "(self)", "trial": "(self, rows)", "story": "(self, level)", "walk": "(self)",
+                "answer": "(self, rule)", "doubt": "(self, answer)", "wrong_now": "(self)"},
+    alike.Finder: {"left": "(self)", "tell": "(self, readings, answer)", "question": "(self)"},
 }
 
 CLASS_METHODS = {stretch.Stretch: {"around": "(level, radius)"}, stretch.Levels: {"of": "(stretches)"},
                  gauges.Rack: {"of": "(gauges, together=())"},
                  rules.Rank: {"least": "(*parts)", "greatest": "(*parts)", "median": "(*parts)",
                               "of": "(place, parts)"},
-                 rules.Trim: {"of": "(cut, parts)"}, rules.Weigh: {"of": "(weights, parts)"}}
+                 rules.Trim: {"of": "(cut, parts)"}, rules.Weigh: {"of": "(weights, parts)"},
+                 alike.Finder: {"of": "(rules)"}}
 
 PROPERTIES = {stretch.Stretch: ["width", "middle"], stretch.Levels: ["lowest", "highest", "size"],
-              gauges.Gauge: ["width"], worst.Miss: ["worst"], worst.Case: ["miss"], papers.Twins: ["gap"]}
+              gauges.Gauge: ["width"], worst.Miss: ["worst"], worst.Case: ["miss"], papers.Twins: ["gap"],
+              dropping.Keeper: ["limit"], desk.Desk: ["now", "allowed"]}
 
 OPERATORS = {
     stretch.Stretch: ["contains", "eq", "add", "sub", "neg", "and", "or", "repr", "str"],
     stretch.Levels: ["contains", "eq", "and", "or", "sub", "add", "getitem", "len", "bool", "repr", "str", "iter"],
-    gauges.Rack: ["len", "contains"], rules.Rule: ["eq", "str"], worst.Miss: ["eq"],
+    gauges.Rack: ["len", "contains"], rules.Rule: ["eq", "str"], worst.Miss: ["eq"], desk.Desk: ["len"],
 }
 
 
@@ -93,6 +110,11 @@ class Interface(unittest.TestCase):
             for name in names:
                 self.assertIsInstance(vars(kind)[name], property)
         self.assertEqual(vars(gauges.Gauge)["LONGEST"], 12)
+        for kind, name in ((dropping.Keeper, "limit"), (desk.Desk, "allowed")):
+            self.assertIsNotNone(vars(kind)[name].fset)
+
+    def test_the_steady_desk_derives_from_the_desk(self):
+        self.assertEqual(desk.SteadyDesk.__bases__, (desk.Desk,))
 
     def test_operators_are_defined_in_their_class(self):
         for kind, names in OPERATORS.items():

@@ -3,8 +3,11 @@
 import copy
 import unittest
 
-from gaugemiss import papers, sharing, worst
-from gaugemiss.errors import GaugeError
+from gaugemiss import dropping, papers, sharing, tying, worst
+from gaugemiss.alike import Finder, alike, differ
+from gaugemiss.desk import Desk, SteadyDesk
+from gaugemiss.dropping import Keeper
+from gaugemiss.errors import GaugeError, NoCase
 from gaugemiss.gauges import Gauge, Rack
 from gaugemiss.notation import read_rack, read_rule, write_rack
 from gaugemiss.papers import Twins
@@ -93,6 +96,62 @@ class Arguments(Checks):
             self.assertRaises(GaugeError, call)
         self.assertEqual([shown(rack), str(rule), str(known), [str(each) for each in rules], paper], before)
 
+    def test_dropping_leaves_racks_lists_and_dicts_as_they_were(self):
+        rack, kept, lot, other = small_rack((("a", "b"),)), ["c", "a", "b"], ["b"], ["b", "x", "a"]
+        readings = {"c": 9, "x": 0, "a": 1, "b": 2}
+        before = copy.deepcopy([shown(rack), kept, lot, other, readings])
+        calls = [lambda: dropping.honest_reach(rack, kept, lot, "a"),
+                 lambda: dropping.drop_case(rack, kept, lot, "a", 0),
+                 lambda: dropping.drop_case(rack, kept, lot, "b", 0), lambda: dropping.drop_table(rack, 0, lot),
+                 lambda: dropping.drop_path(rack, 0, lot, ["c"]), lambda: dropping.drop_path(rack, 0, lot, kept),
+                 lambda: dropping.safe_limit(rack, lot), lambda: dropping.keeper_miss(rack, 0, lot),
+                 lambda: Keeper(rack, 0).take(readings)]
+        wrong = [lambda: dropping.honest_reach(rack, kept, lot, "x"),
+                 lambda: dropping.drop_case(rack, kept, lot, "x", 0),
+                 lambda: dropping.drop_case(rack, kept, lot, "a", 99), lambda: dropping.drop_path(rack, 0, lot, other),
+                 lambda: dropping.drop_path(rack, 99, [], ["c"]), lambda: Keeper(rack, -1),
+                 lambda: Keeper(rack, 0).take({})]
+        for call in calls:
+            call()
+        for call in wrong:
+            self.assertRaises(GaugeError, call)
+        self.assertEqual([shown(rack), kept, lot, other, readings], before)
+
+    def test_desks_leave_racks_rules_and_rows_as_they_were(self):
+        rack, start, rule = small_rack((("a", "b"),)), Stretch(0, 9), read_rule("rank 0 (c, a)")
+        rows = [{"c": 5, "a": 4}, {"b": 90, "a": 5}, {}, {"c": 6, "a": 4}, {"x": 1}]
+        before = copy.deepcopy([shown(rack), vars(start), str(rule), rows])
+        for kind in (Desk, SteadyDesk):
+            desk = kind(rack, start, liars=1, pace=1)
+            for readings in rows[:4]:
+                desk.record(readings)
+            desk.trial(rows[:2])
+            self.assertRaises(GaugeError, desk.trial, rows)
+            self.assertRaises(GaugeError, desk.record, rows[4])
+            for call in (lambda: desk.tell_late("b", 0, 5), lambda: desk.answer(rule), lambda: desk.story(5), desk.undo,
+                         desk.redo, lambda: desk.allow(2), lambda: desk.smoothed(0), lambda: list(desk.walk())):
+                call()
+            for given in rows:
+                desk.undo()
+            self.assertEqual([shown(rack), vars(start), str(rule), rows], before)
+
+    def test_finders_and_facts_leave_rules_lists_and_dicts_as_they_were(self):
+        rules, readings = [read_rule("rank 0 (c, a)"), Leaf("c"), Leaf("a")], {"c": 9, "x": 0, "a": 1}
+        first, second, gap = stretches((5, 9), (0, 6)), stretches((4, 5), (0, 3)), Stretch(-1, 2)
+        before = copy.deepcopy([[str(rule) for rule in rules], readings, [str(each) for each in first + second],
+                                str(gap)])
+        finder = Finder.of(rules)
+        for call in (lambda: differ(rules[0], rules[1]), lambda: alike(rules[0], rules[1]), finder.question,
+                     lambda: finder.tell(readings, 1), lambda: tying.shared_budget(first, second, gap, 1),
+                     lambda: tying.joint_clashes(first, second, gap), lambda: tying.agreed(first, second[:1], gap)):
+            call()
+        for call in (lambda: finder.tell(readings, 9), lambda: finder.tell({}, 1),
+                     lambda: differ(rules[0], Trim(0, rules[1])),
+                     lambda: tying.shared_budget(first, second, gap, 2), lambda: tying.agreed(first, second, gap)):
+            self.assertRaises(GaugeError, call)
+        self.assertEqual([[str(rule) for rule in rules], readings, [str(each) for each in first + second], str(gap)],
+                         before)
+
     def test_a_case_leaves_what_it_looks_at_as_it_was(self):
         rack, case = small_rack((("a", "b"),)), Case(5, {"c": 5, "b": 9, "a": 90}, ["b", "a", "b"], 9)
         before = copy.deepcopy([shown(rack), vars(case)])
@@ -139,6 +198,14 @@ class HandedIn(Checks):
 
 
 class Returned(Checks):
+    def check_new(self, calls):
+        """Each call returns a list or a dict that is not empty, and a new one each time."""
+        for call in calls:
+            before = copy.deepcopy(call())
+            call().clear()
+            self.assertEqual(call(), before)
+            self.assertTrue(before)
+
     def test_ends_and_pieces(self):
         levels = Levels(*stretches((1, 2), (5, 6)))
         levels.ends().append((8, 9))
@@ -183,12 +250,48 @@ class Returned(Checks):
                  lambda: papers.make_paper(rack, rule, 1), lambda: worst.worst_case(rack, rule, 1).lot,
                  lambda: worst.worst_case(rack, rule, 1).readings, lambda: papers.twin_worlds(rack, 1).low_lot,
                  lambda: papers.twin_worlds(rack, 1).high_lot, lambda: papers.twin_worlds(rack, 1).readings]
-        for call in calls:
-            before = copy.deepcopy(call())
-            call().clear()
-            self.assertEqual(call(), before)
-            self.assertTrue(before)
+        self.check_new(calls)
         self.assertEqual(shown(rack), shown(small_rack()))
+
+    def test_results_of_dropping(self):
+        rack = small_rack()
+        calls = [lambda: dropping.drop_case(rack, ["a", "c"], [], "a", 0)[1], lambda: dropping.drop_table(rack, 0, []),
+                 lambda: dropping.drop_case(rack, ["a", "c"], ["a"], "a", 0)[1],
+                 lambda: dropping.drop_table(rack, 0, [])[0][0],
+                 lambda: dropping.drop_table(rack, 0, [])[0][1], lambda: dropping.drop_table(rack, 0, [])[1][0],
+                 lambda: dropping.drop_path(rack, 0, [], ["a"]), lambda: dropping.drop_path(rack, 0, [], ["a"])[0][1],
+                 Keeper(rack, 0).kept]
+        self.check_new(calls)
+        self.assertEqual(shown(rack), shown(small_rack()))
+
+    def test_lists_in_one_table_are_not_tied_to_each_other(self):
+        rack = small_rack()
+        table = dropping.drop_table(rack, 0, ["a"])
+        for at, (kept, droppable) in enumerate(copy.deepcopy(table)):
+            table[at][0].clear()
+            table[at][1].append("x")
+            self.assertEqual(table[at + 1:], dropping.drop_table(rack, 0, ["a"])[at + 1:])
+
+    def test_the_list_of_no_case(self):
+        kept = ["c", "b"]
+        with self.assertRaises(NoCase) as caught:
+            dropping.drop_path(small_rack(), 99, [], kept)
+        caught.exception.lot.append("x")
+        self.assertEqual([kept, caught.exception.lot], [["c", "b"], ["b", "c", "x"]])
+
+    def test_results_of_desks(self):
+        for kind in (Desk, SteadyDesk):
+            desk = kind(small_rack(), Stretch(0, 9), liars=1, pace=1)
+            desk.record({"a": 3, "b": 70, "c": 4})
+            calls = [lambda: desk.story(4), lambda: desk.story(4)[0][1], lambda: list(desk.walk())[0][1],
+                     desk.wrong_now,
+                     lambda: desk.trial([{}]), lambda: desk.now.ends(), lambda: desk.at(0).ends()]
+            self.check_new(calls)
+
+    def test_results_of_finders_and_facts(self):
+        finder, first = Finder(Leaf("a"), Leaf("b")), stretches((5, 9), (0, 4))
+        self.check_new([finder.left, finder.question, lambda: differ(Leaf("a"), Leaf("b")),
+                        lambda: tying.joint_clashes(first, [], Stretch(0, 1))])
 
     def test_a_rack_that_was_read(self):
         text = "a 1\nb 4\nc 2\ntogether c a"
