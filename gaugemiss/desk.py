@@ -21,7 +21,9 @@ class Account:
 
 def _union(row):
     """The levels of all ways to lie together."""
-    return Levels.of([piece for levels in row for piece in levels])
+    # The property now runs this, so the set is made here: Levels.of would call the class that it is handed.
+    pieces = [piece for levels in row for piece in levels]
+    return Levels(*pieces)
 
 
 def _within(levels, stretches):

@@ -10,7 +10,7 @@ from gaugemiss.gauges import CoarseGauge, Gauge, Rack
 from gaugemiss.notation import read_rule
 from gaugemiss.rules import Leaf, Rank, Trim
 from gaugemiss.stretch import Levels, Stretch
-from tests.checks import BIG, Checks
+from tests.checks import BIG, Checks, stretches
 from tests.drawing import LETTERS, full_rack
 from tests.following import KINDS, drawn_pair, drawn_readings, look, look_deep
 
@@ -199,6 +199,82 @@ class Recording(Checks):
             self.assertEqual(levels.ends(), [(18 * far * at - 73 * far + tick,
                                               18 * far * at - 71 * far) for at in range(9)])
         self.assertEqual(desk.smoothed(0), desk.now)
+
+
+class Now(Checks):
+    def check_now(self, desk, *pairs):
+        """The property gives new Levels with these pieces each time, and asking for them changes nothing."""
+        before = look(desk)
+        for _ in range(3):
+            self.assertIs(type(desk.now), Levels)
+            self.assertEqual([desk.now.ends(), desk.now], [list(pairs), Levels(*stretches(*pairs))])
+            self.assertIsNot(desk.now, desk.now)
+        self.assertEqual(look(desk), before)
+
+    def test_before_the_first_tick(self):
+        for kind in KINDS:
+            for low, high in ((0, 0), (-5, 9), (-BIG, BIG)):
+                for liars in range(4):
+                    # On a SteadyDesk each of the ways to lie has the whole start, and together they are one piece.
+                    self.check_now(kind(small_rack(), Stretch(low, high), liars=liars, pace=3), (low, high))
+            self.check_now(kind(Rack(), Stretch(2, 4), pace=1), (2, 4))
+            desk = kind(small_rack(), Stretch(0, 9))
+            self.refuses(NoTruth, {"tick": 0}, desk.record, {"b": 14})
+            self.check_now(desk, (0, 9))
+            desk.record({"a": 3})
+            desk.undo()
+            self.check_now(desk, (0, 9))
+
+    def test_after_ticks(self):
+        for kind in KINDS:
+            desk = kind(small_rack(), Stretch(0, 10), pace=3)
+            for readings, pair in (({}, (-3, 13)), ({"a": 15}, (14, 16)), ({}, (11, 19)), ({"c": 8}, (8, 10))):
+                self.assertEqual(desk.record(readings), Levels(Stretch(*pair)))
+                self.check_now(desk, pair)
+            self.refuses(NoTruth, {"tick": 4}, desk.record, {"a": 50})
+            self.check_now(desk, (8, 10))
+            desk.undo()
+            self.check_now(desk, (11, 19))
+
+    def test_the_ways_to_lie_together(self):
+        rack = Rack(*[Gauge(name, 2) for name in "abc"])
+        rows = (({"a": 0, "b": 20}, [(-2, 2), (18, 22)]),                # apart
+                ({"a": 20, "b": 0}, [(-2, 2), (18, 22)]),                # apart, the first way above the second one
+                ({"a": 0, "b": 5}, [(-2, 7)]),                           # they touch
+                ({"a": 0, "b": 6}, [(-2, 2), (4, 8)]),                   # one level is missing between them
+                ({"a": 0, "b": 3}, [(-2, 5)]),                           # they overlap
+                ({"a": 0, "b": 0}, [(-2, 2)]),                           # they are equal
+                ({"a": 0, "b": 3, "c": 20}, [(1, 2)]),                   # two of the three ways leave no level
+                ({"a": 0, "b": 3, "c": 7}, [(1, 2), (5, 5)]),            # one of them does
+                ({"a": 0}, [(-50, 50)]), ({}, [(-50, 50)]))              # a way that leaves all levels takes in the rest
+        for kind in KINDS:
+            for readings, pairs in rows:
+                desk = kind(rack, Stretch(-50, 50), liars=1)
+                desk.record(readings)
+                self.check_now(desk, *pairs)
+
+    def test_each_way_to_lie_goes_on_by_itself(self):
+        rack = Rack(*[Gauge(name, 2) for name in "abc"])
+        desk = SteadyDesk(rack, Stretch(-50, 50), liars=1, pace=1)
+        steps = (({"a": 0, "b": 20}, [(-2, 2), (18, 22)]), ({}, [(-3, 3), (17, 23)]), ({"a": 4}, [(2, 4), (16, 24)]),
+                 ({"c": 18, "b": 17}, [(16, 19)]))
+        for readings, pairs in steps:
+            desk.record(readings)
+            self.check_now(desk, *pairs)
+        for _, pairs in steps[-2::-1]:
+            desk.undo()
+            self.check_now(desk, *pairs)
+        desk.undo()
+        self.check_now(desk, (-50, 50))
+
+    def test_nine_ways_in_nine_pieces(self):
+        far = 10 ** 60 - 1
+        rack = Rack(*[Gauge(name, 1) for name in LETTERS])
+        for kind in KINDS:
+            desk = kind(rack, Stretch(-far, far), liars=8)
+            self.check_now(desk, (-far, far))
+            desk.record({name: 10 * at for at, name in list(enumerate(LETTERS))[::-1]})
+            self.check_now(desk, *[(10 * at - 1, 10 * at + 1) for at in range(9)])
 
 
 class Stories(Checks):
